@@ -1,0 +1,1 @@
+"""Leastform: forms read off samples."""

@@ -1,0 +1,133 @@
+"""The package keeps to its part of Python: the rules of ../shared/LANGUAGE.md that a walk over the tree can see."""
+
+import ast
+import builtins
+import pathlib
+import re
+import unittest
+
+PACKAGE = pathlib.Path(__file__).resolve().parent.parent / "leastform"
+
+STATEMENTS = (
+    ast.FunctionDef, ast.ClassDef, ast.Return, ast.Assign, ast.AugAssign, ast.AnnAssign, ast.For, ast.While, ast.If,
+    ast.Raise, ast.Try, ast.ImportFrom, ast.Import, ast.Expr, ast.Pass, ast.Break, ast.Continue,
+)
+EXPRESSIONS_OUT = (
+    ast.SetComp, ast.DictComp, ast.GeneratorExp, ast.NamedExpr, ast.Starred, ast.Yield, ast.YieldFrom, ast.Await,
+)
+BUILTINS_IN = set(
+    "len range enumerate zip min max sum abs sorted reversed int str bool list tuple dict set frozenset isinstance ord "
+    "repr any all divmod Exception ValueError TypeError KeyError IndexError LookupError ZeroDivisionError "
+    "ArithmeticError OverflowError RuntimeError NotImplementedError AttributeError StopIteration print object float "
+    "bytes True False None".split()
+)
+METHODS_IN = set(
+    "append clear copy count endswith extend find get index insert isalnum isalpha isdigit islower isspace isupper items "
+    "join keys ljust lower lstrip partition pop remove replace reverse rfind rjust rpartition rsplit rstrip setdefault "
+    "split splitlines startswith strip update upper values zfill bit_length".split()
+)
+PYTHON_S_OWN_METHODS = {
+    name for kind in (str, int, list, dict, set, bytes, tuple) for name in vars(kind) if not name.startswith("_")
+}
+WORDS_OUT = re.compile(
+    r"\b(type|typing|typing_extensions|enum|Enum|IntEnum|StrEnum|Flag|IntFlag|Generic|Protocol|ABC|ABCMeta|namedtuple"
+    r"|NamedTuple|TypedDict|TYPE_CHECKING|abstractmethod)\b|dataclass|overload|contextmanager"
+)
+DUNDERS_IN = {"__init__", "__eq__", "__repr__", "__str__", "__len__", "__all__", "__version__", "__name__"}
+
+
+def files():
+    return sorted(path for path in PACKAGE.rglob("*") if path.is_file() and "__pycache__" not in path.parts)
+
+
+def drawn_from(tree):
+    return [node.module for node in ast.walk(tree) if isinstance(node, ast.ImportFrom)]
+
+
+class Language(unittest.TestCase):
+    def setUp(self):
+        self.trees = {path: ast.parse(path.read_text(encoding="ascii")) for path in files()}
+
+    def nodes(self):
+        for path, tree in self.trees.items():
+            for node in ast.walk(tree):
+                yield f"{path.name}:{getattr(node, 'lineno', 0)}", path, node
+
+    def test_files(self):
+        names = {path.name for path in files()}
+        self.assertTrue({"__init__.py", "errors.py", "values.py", "runs.py", "words.py"} <= names)
+        for path in files():
+            self.assertRegex(path.name, r"^[a-z_][a-z0-9_]*\.py$")
+
+    def test_signs_and_sizes(self):
+        for path in files():
+            rows = path.read_bytes().decode("ascii").split("\n")
+            self.assertLessEqual(len(rows), 401, path.name)
+            for place, row in enumerate(rows, start=1):
+                self.assertLessEqual(len(row), 120, f"{path.name}:{place}")
+                self.assertTrue(all(" " <= sign <= "~" for sign in row), f"{path.name}:{place}")
+                self.assertIsNone(WORDS_OUT.search(row), f"{path.name}:{place}")
+        for where, _, node in self.nodes():
+            if isinstance(node, ast.FunctionDef):
+                self.assertLessEqual(node.end_lineno - node.lineno + 1, 40, where)
+
+    def test_statements_and_expressions(self):
+        for where, _, node in self.nodes():
+            if isinstance(node, ast.stmt):
+                self.assertIsInstance(node, STATEMENTS, where)
+            self.assertNotIsInstance(node, EXPRESSIONS_OUT, where)
+            if isinstance(node, ast.Assign):
+                self.assertEqual(len(node.targets), 1, where)
+            if isinstance(node, (ast.For, ast.While)):
+                self.assertFalse(node.orelse, where)
+            if isinstance(node, ast.Try):
+                self.assertFalse(node.finalbody, where)
+            if isinstance(node, ast.ListComp):
+                self.assertTrue(len(node.generators) == 1 and len(node.generators[0].ifs) <= 1, where)
+            if isinstance(node, ast.Constant):
+                self.assertNotIsInstance(node.value, (float, bytes, complex), where)
+                self.assertFalse(isinstance(node.value, str) and "%" in node.value, where)
+            if isinstance(node, (ast.FunctionDef, ast.ClassDef)):
+                self.assertFalse(node.decorator_list, where)
+            self.assertNotIsInstance(node, (ast.Div, ast.MatMult), where)
+            if isinstance(node, ast.Compare) and any(isinstance(op, (ast.Is, ast.IsNot)) for op in node.ops):
+                sides = [node.left] + node.comparators
+                self.assertTrue(any(isinstance(side, ast.Constant) for side in sides), where)
+
+    def test_names(self):
+        own = set(dir(builtins))
+        for where, _, node in self.nodes():
+            if isinstance(node, ast.Name):
+                self.assertTrue(node.id in BUILTINS_IN or node.id not in own, f"{where} {node.id}")
+                self.assertTrue(isinstance(node.ctx, ast.Load) or node.id not in own, f"{where} {node.id}")
+            for name in (getattr(node, "id", ""), getattr(node, "attr", ""), getattr(node, "arg", "") or ""):
+                if isinstance(name, str) and name.startswith("_"):
+                    self.assertIn(name, DUNDERS_IN, where)
+            if isinstance(node, ast.arg):
+                self.assertNotIn(node.arg, own, where)
+            if isinstance(node, ast.Attribute) and node.attr in PYTHON_S_OWN_METHODS:
+                self.assertIn(node.attr, METHODS_IN | {"add", "discard", "title"}, where)
+
+    def test_imports(self):
+        for where, path, node in self.nodes():
+            if isinstance(node, ast.Import):
+                self.assertEqual(path.name, "__main__.py", where)
+            if isinstance(node, ast.ImportFrom):
+                self.assertEqual(node.level, 0, where)
+                self.assertTrue(node.module == "__future__" or node.module.startswith("leastform."), where)
+                self.assertNotIn("*", [alias.name for alias in node.names], where)
+
+    def test_no_two_files_draw_from_one_another(self):
+        draws = {"leastform." + path.stem: drawn_from(tree) for path, tree in self.trees.items()}
+        settled = set()
+        while True:
+            ready = {name for name in draws if name not in settled and all(
+                other in settled for other in draws[name] if other in draws)}
+            if not ready:
+                break
+            settled |= ready
+        self.assertEqual(settled, set(draws))
+
+
+if __name__ == "__main__":
+    unittest.main()
