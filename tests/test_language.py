@@ -44,6 +44,29 @@ def drawn_from(tree):
     return [node.module for node in ast.walk(tree) if isinstance(node, ast.ImportFrom)]
 
 
+def imported(tree):
+    return [alias.asname or alias.name for node in ast.walk(tree) if isinstance(node, ast.ImportFrom) for alias in node.names]
+
+
+def bound_at_top(tree):
+    names = imported(tree) + [node.name for node in tree.body if isinstance(node, (ast.FunctionDef, ast.ClassDef))]
+    return names + [target.id for node in tree.body if isinstance(node, ast.Assign) for target in node.targets]
+
+
+def bound_in_defs(tree):
+    """The parameters and locals of all defs, those of comprehensions, too."""
+    names = [node.arg for node in ast.walk(tree) if isinstance(node, ast.arg)]
+    for top in tree.body:
+        if isinstance(top, (ast.FunctionDef, ast.ClassDef)):
+            names.extend(node.id for node in ast.walk(top) if isinstance(node, ast.Name) and isinstance(node.ctx, ast.Store))
+    return names
+
+
+def defined_at(module):
+    tree = ast.parse((PACKAGE / (module.split(".")[1] + ".py")).read_text(encoding="ascii"))
+    return set(bound_at_top(tree)) - set(imported(tree))
+
+
 class Language(unittest.TestCase):
     def setUp(self):
         self.trees = {path: ast.parse(path.read_text(encoding="ascii")) for path in files()}
@@ -55,7 +78,8 @@ class Language(unittest.TestCase):
 
     def test_files(self):
         names = {path.name for path in files()}
-        self.assertTrue({"__init__.py", "errors.py", "values.py", "runs.py", "words.py"} <= names)
+        modules = ["errors", "values", "runs", "words", "forms", "letting", "joining", "cores"]
+        self.assertTrue({"__init__.py"} | {module + ".py" for module in modules} <= names)
         for path in files():
             self.assertRegex(path.name, r"^[a-z_][a-z0-9_]*\.py$")
 
@@ -107,6 +131,27 @@ class Language(unittest.TestCase):
                 self.assertNotIn(node.arg, own, where)
             if isinstance(node, ast.Attribute) and node.attr in PYTHON_S_OWN_METHODS:
                 self.assertIn(node.attr, METHODS_IN | {"add", "discard", "title"}, where)
+
+    def test_each_name_has_one_meaning(self):
+        for path, tree in self.trees.items():
+            top = bound_at_top(tree)
+            self.assertEqual(len(top), len(set(top)), path.name)
+            self.assertFalse(set(top) & set(bound_in_defs(tree)), path.name)
+
+    def test_imports_are_used_and_come_from_where_they_are_defined(self):
+        for path, tree in self.trees.items():
+            used = {node.id for node in ast.walk(tree) if isinstance(node, ast.Name)}
+            self.assertLessEqual(set(imported(tree)), used, path.name)
+            for node in ast.walk(tree):
+                if isinstance(node, ast.ImportFrom) and node.module != "__future__":
+                    self.assertLessEqual({alias.name for alias in node.names}, defined_at(node.module), path.name)
+
+    def test_calls_that_must_be_walked_are_not_kept(self):
+        for where, _, node in self.nodes():
+            if isinstance(node, (ast.Assign, ast.Return)) and isinstance(node.value, ast.Call):
+                call = node.value.func
+                name = call.id if isinstance(call, ast.Name) else call.attr
+                self.assertNotIn(name, {"zip", "enumerate", "reversed", "range", "items", "keys", "values", "set"}, where)
 
     def test_imports(self):
         for where, path, node in self.nodes():

@@ -9,7 +9,7 @@ from leastform.words import (
     is_words, marks_of, words_joined, words_let, words_many, words_met, words_of, words_parted, words_some, words_texts,
     words_within,
 )
-from tests.helper import Asking, anything
+from tests.helper import Asking, anything, few, make
 
 MANY = {"figure": 10, "great": 26, "other": 32, "small": 26}
 MARKS = ("figure", "great", "other", "small")
@@ -27,14 +27,6 @@ def mark(sign):
 
 def marks(text):
     return tuple(sorted({mark(sign) for sign in text}))
-
-
-def few(*texts):
-    return ("few", texts)
-
-
-def make(head, least, most, *some):
-    return ("make", head, least, most, some)
 
 
 def model_lets(words, text):
