@@ -2,6 +2,7 @@
 
 The models are written from the points alone and draw on runs and words, which have tests of their own."""
 
+import itertools
 import unittest
 
 from leastform.runs import run_has, run_of, run_within
@@ -281,3 +282,77 @@ FORMS = [()] + [(part,) for part in LEAVES + HOLDERS] + [
     (NO, NUMBERS), (NO, ("truths", (True,)), NUMBERS, ("texts", SMALLS), lists(0, 2, NO), record(0, 0)),
     (NUMBERS, table(0, 1, SMALLS, NO)), (("texts", few("a")), lists(0, 0)),
 ]
+
+
+def thrown_words(dice, kind):
+    if kind == "few":
+        return few(*sorted({dice.one_of(TEXTS) for _ in range(1 + dice.below(6))}))
+    least = dice.below(3)
+    marks = sorted({dice.one_of(["figure", "great", "other", "small"]) for _ in range(1 + dice.below(3))})
+    return make(dice.one_of(["", "", "a", "id-", "n1"]), least, max(1, least + dice.below(3)), *marks)
+
+
+def thrown_record(dice, deep):
+    names = sorted({dice.one_of(NAMES) for _ in range(dice.below(9))})
+    ways = dice.below(3)
+    fields = [(name, ways == 2 or (ways == 1 and dice.below(2) == 1), thrown_form(dice, deep - 1)) for name in names]
+    musts = sum(must for _, must, _ in fields)
+    if musts == len(names):
+        return record(musts, musts, *fields)
+    least = musts + dice.below(len(names) - musts)
+    return record(least, max(least, musts + 1) + dice.below(len(names) + 1 - max(least, musts + 1)), *fields)
+
+
+def thrown_part(dice, kind, deep):
+    if kind == "truth":
+        return ("truths", dice.one_of([(False,), (True,), (False, True)]))
+    if kind == "number":
+        step = dice.one_of([0, 0, 1, 2, 3, 6, 10 ** 30])
+        lo = dice.below(7) - 3
+        return ("numbers", lo, lo + step * (1 + dice.below(6)), step)
+    if kind == "text":
+        return ("texts", thrown_words(dice, dice.one_of(["few", "make"])))
+    if kind == "list":
+        least = dice.below(4)
+        most = least + dice.below(4)
+        return ("lists", least, most, thrown_form(dice, deep - 1) if most > 0 else ())
+    if kind == "dict" and dice.below(3) > 0:
+        return thrown_record(dice, deep)
+    if kind == "dict":
+        most = dice.one_of([1, 2, 3, 9, 10])
+        return ("table", dice.below(most + 1), most, thrown_words(dice, "make"), thrown_form(dice, deep - 1))
+    return NO
+
+
+def thrown_form(dice, deep):
+    """A form that isn't (), of bounds of all sorts, at most so deep."""
+    kinds = KINDS if deep > 1 else KINDS[:4]
+    chosen = {dice.one_of(kinds) for _ in range(1 + dice.below(3))}
+    return tuple(thrown_part(dice, kind, deep) for kind in KINDS if kind in chosen)
+
+
+def thrown_forms(seed, many, deep=3):
+    dice = Dice(seed)
+    return [thrown_form(dice, deep) for _ in range(many)]
+
+
+def deep_lists(least, most, deep, *parts):
+    """Lists within one another, deep of them, the innermost with these parts for their items."""
+    return parts if deep == 0 else (lists(least, most, *deep_lists(least, most, deep - 1, *parts)),)
+
+
+def deep_records(names, least, most, field, deep, *parts):
+    """Records within one another, with one of these below each name."""
+    if deep == 0:
+        return parts
+    return (record(least, most, *[field(name, *deep_records(names, least, most, field, deep - 1, *parts)) for name in names]),)
+
+
+def all_records(names, *parts):
+    """Records with the first of these names, of all bounds that point 14 lets them have, each field with these parts."""
+    for size in range(len(names) + 1):
+        for musts in itertools.product((True, False), repeat=size):
+            fields = [(name, is_must, parts) for name, is_must in zip(names, musts)]
+            for least, most in itertools.product(range(size + 1), repeat=2):
+                if sum(musts) <= least <= most <= size and (all(musts) or (least < size and most > sum(musts))):
+                    yield record(least, most, *fields)

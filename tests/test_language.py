@@ -78,7 +78,8 @@ class Language(unittest.TestCase):
 
     def test_files(self):
         names = {path.name for path in files()}
-        modules = ["errors", "values", "runs", "words", "forms", "letting", "joining", "cores"]
+        modules = ["errors", "values", "runs", "words", "forms", "letting", "joining", "cores", "making", "holding",
+                   "meeting", "changing"]
         self.assertTrue({"__init__.py"} | {module + ".py" for module in modules} <= names)
         for path in files():
             self.assertRegex(path.name, r"^[a-z_][a-z0-9_]*\.py$")
