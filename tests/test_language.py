@@ -79,7 +79,7 @@ class Language(unittest.TestCase):
     def test_files(self):
         names = {path.name for path in files()}
         modules = ["errors", "values", "runs", "words", "forms", "letting", "joining", "cores", "making", "holding",
-                   "meeting", "changing"]
+                   "meeting", "changing", "reading", "valuetexts", "formtexts", "books", "desk"]
         self.assertTrue({"__init__.py"} | {module + ".py" for module in modules} <= names)
         for path in files():
             self.assertRegex(path.name, r"^[a-z_][a-z0-9_]*\.py$")
@@ -173,6 +173,80 @@ class Language(unittest.TestCase):
                 break
             settled |= ready
         self.assertEqual(settled, set(draws))
+
+    def test_functions_and_classes(self):
+        methods, values = set(), set()
+        for where, path, node in self.nodes():
+            if isinstance(node, (ast.FunctionDef, ast.Lambda)):
+                given = node.args
+                self.assertFalse(given.vararg or given.kwarg or given.kwonlyargs or given.posonlyargs, where)
+            if isinstance(node, ast.ClassDef):
+                self.assertIn(node, self.trees[path].body, where)
+                self.assertLessEqual(len(node.bases), 1, where)
+                self.assertTrue(all(isinstance(inner, (ast.FunctionDef, ast.Pass)) for inner in node.body), where)
+                names = [inner.name for inner in node.body if isinstance(inner, ast.FunctionDef)]
+                self.assertEqual(len(names), len(set(names)), where)
+                self.assertFalse(set(names) & (PYTHON_S_OWN_METHODS - METHODS_IN - {"add", "discard"}), where)
+                methods |= set(names)
+            if isinstance(node, ast.Attribute) and isinstance(node.ctx, ast.Store):
+                self.assertNotIn(node.attr, PYTHON_S_OWN_METHODS, where)
+                values.add(node.attr)
+        self.assertFalse(methods & values)
+
+    def test_texts_and_numbers(self):
+        for where, _, node in self.nodes():
+            if isinstance(node, ast.FormattedValue):
+                self.assertIsInstance(node.value, ast.Name, where)
+                self.assertIsNone(node.format_spec, where)
+            if isinstance(node, ast.BinOp) and isinstance(node.op, ast.Pow):
+                self.assertIsInstance(node.right, ast.Constant, where)
+
+    def test_errors(self):
+        own = defined_at("leastform.errors")
+        for where, _, node in self.nodes():
+            if isinstance(node, ast.Raise):
+                self.assertIn(node.exc.func.id, own, where)
+            if isinstance(node, ast.Try):
+                for handler in node.handlers:
+                    self.assertIn(handler.type.id, own | {"KeyError", "ZeroDivisionError", "StopIteration", "ValueError"}, where)
+                    if handler.type.id == "ValueError":
+                        self.assertEqual(len(node.body), 1, where)
+                        self.assertIn(node.body[0].value.func.id, {"int", "str"}, where)
+
+    def test_python_s_own_as_they_are_called(self):
+        keywords = {"sorted": {"key", "reverse"}, "min": {"key", "default"}, "max": {"key", "default"}, "sum": {"start"},
+                    "enumerate": {"start"}, "zip": {"strict"}}
+        for where, path, node in self.nodes():
+            if isinstance(node, ast.Call):
+                name = node.func.id if isinstance(node.func, ast.Name) else ""
+                self.assertLessEqual({word.arg for word in node.keywords}, keywords.get(name, set()), where)
+                if name == "isinstance":
+                    self.assertIn(node.args[1].id, {"int", "str", "bool", "list", "tuple", "dict"}, where)
+            for inner in ast.iter_child_nodes(node):
+                if isinstance(inner, ast.Call) and isinstance(inner.func, ast.Name) and inner.func.id == "set":
+                    walked = isinstance(node, ast.Call) and isinstance(node.func, ast.Name) and node.func.id in ("sorted", "len")
+                    self.assertTrue(walked or isinstance(node, (ast.Compare, ast.BinOp)), where)
+            if isinstance(node, ast.Name) and isinstance(node.ctx, ast.Load) and node.id in BUILTINS_IN - {"True", "False", "None"}:
+                self.assertIn(node.id, self.called(path), where)
+
+    def called(self, path):
+        """Python's own names that a file calls, names beside isinstance, and those that errors stand under."""
+        found = {"ValueError"}
+        for node in ast.walk(self.trees[path]):
+            if isinstance(node, ast.Call):
+                found |= {inner.id for inner in [node.func] + node.args[1:] if isinstance(inner, ast.Name)}
+        return found
+
+    def test_what_a_loop_walks_is_not_changed_in_it(self):
+        for where, _, node in self.nodes():
+            if isinstance(node, ast.For):
+                walked = {inner.id for inner in [node.iter] if isinstance(inner, ast.Name)}
+                for inner in ast.walk(node):
+                    if isinstance(inner, ast.Call) and isinstance(inner.func, ast.Attribute) and isinstance(inner.func.value, ast.Name):
+                        if inner.func.attr in {"append", "clear", "extend", "insert", "pop", "remove", "reverse", "setdefault", "update"}:
+                            self.assertNotIn(inner.func.value.id, walked, where)
+                    if isinstance(inner, ast.Subscript) and isinstance(inner.ctx, ast.Store) and isinstance(inner.value, ast.Name):
+                        self.assertNotIn(inner.value.id, walked, where)
 
 
 if __name__ == "__main__":
