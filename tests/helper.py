@@ -261,6 +261,11 @@ def may(name, *parts):
     return (name, False, parts)
 
 
+def as_form(thing):
+    """The form of a single part, or the form that is told by its parts."""
+    return (thing,) if thing != () and isinstance(thing[0], str) else tuple(thing)
+
+
 # One of each part, all leaves, and some with forms within, up to three deep.
 LEAVES = [
     NO, ("truths", (False,)), ("truths", (True,)), ("truths", (False, True)), ("numbers", 3, 3, 0), NUMBERS,

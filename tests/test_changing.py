@@ -10,8 +10,8 @@ from leastform.holding import parted, within
 from leastform.joining import joined, told
 from leastform.meeting import met
 from tests.helper import (
-    FORMS, KINDS, NO, NUMBERS, SMALLS, Asking, Dice, anything, boxes, deep_records, few, lists, make, may, model_lets, model_part,
-    model_within, must, record, spoil, table, thrown_form, thrown_forms, thrown_row,
+    FORMS, KINDS, NO, NUMBERS, SMALLS, Asking, Dice, anything, as_form, boxes, deep_records, few, lists, make, may, model_lets,
+    model_part, model_within, must, record, spoil, table, thrown_form, thrown_forms, thrown_row,
 )
 
 FIGURES = make("", 1, 1, "figure")
@@ -66,10 +66,6 @@ def model_changes(old, new, place=()):
         for step, inner_old, inner_new in model_deeper(one, other):
             found += model_changes(inner_old, inner_new, place + (step,))
     return found
-
-
-def as_form(thing):
-    return (thing,) if thing != () and isinstance(thing[0], str) else tuple(thing)
 
 
 class Places(Asking):

@@ -10,8 +10,8 @@ from leastform.making import samples_of
 from leastform.meeting import met
 from leastform.values import parts_in
 from tests.helper import (
-    FORMS, NO, NUMBERS, SMALLS, Asking, boxes, deep_lists, deep_records, few, lists, make, may, model_lets, model_within, must,
-    record, table, thrown_form, thrown_forms, thrown_row, Dice,
+    FORMS, NO, NUMBERS, SMALLS, Asking, Dice, as_form, boxes, deep_lists, deep_records, few, lists, make, may, model_lets,
+    model_within, must, record, table, thrown_form, thrown_forms, thrown_row,
 )
 
 GREAT = 10 ** 59
@@ -19,10 +19,6 @@ FIGURES = make("", 1, 1, "figure")
 TEXTS = ("texts", SMALLS)
 ONE = ("numbers", 1, 1, 0)
 TWO = ("numbers", 1, 2, 1)
-
-
-def as_form(thing):
-    return (thing,) if thing != () and isinstance(thing[0], str) else tuple(thing)
 
 
 class Holding(Asking):

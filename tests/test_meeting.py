@@ -8,8 +8,8 @@ from leastform.joining import joined, told
 from leastform.making import samples_of
 from leastform.meeting import are_apart, met
 from tests.helper import (
-    FORMS, NO, NUMBERS, SMALLS, Asking, all_records, deep_lists, deep_records, few, lists, make, may, model_lets, model_within,
-    must, record, table, thrown_forms, thrown_row,
+    FORMS, NO, NUMBERS, SMALLS, Asking, all_records, as_form, deep_lists, deep_records, few, lists, make, may, model_lets,
+    model_within, must, record, table, thrown_forms, thrown_row,
 )
 
 GREAT = 10 ** 59
@@ -18,10 +18,6 @@ TEXTS = ("texts", SMALLS)
 ONE = ("numbers", 1, 1, 0)
 TWO = ("numbers", 1, 2, 1)
 THREE = ("numbers", 2, 3, 1)
-
-
-def as_form(thing):
-    return (thing,) if thing != () and isinstance(thing[0], str) else tuple(thing)
 
 
 class Meeting(Asking):
