@@ -50,7 +50,7 @@ def dict_filled(part, smalls, chosen, left_out, many):
     row = dict(chosen)
     for name in musts_of(part):
         row.setdefault(name, smalls[name])
-    for name in sorted(smalls, key=lambda name: parts_of(smalls[name])):
+    for name in sorted(smalls, key=lambda held: parts_of(smalls[held])):
         if len(row) < many and name != left_out:
             row.setdefault(name, smalls[name])
     return named(row)
